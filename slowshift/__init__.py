@@ -1,0 +1,1 @@
+"""Slowshift: a table that grows a little at each deed."""
