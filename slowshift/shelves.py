@@ -48,8 +48,11 @@ class Shelf:
     def many(self):
         return self.held
 
+    def place_with(self, key):
+        return place_of(mark_of(key, self.mixer), len(self.rows))
+
     def row_with(self, key):
-        return self.rows[place_of(mark_of(key, self.mixer), len(self.rows))]
+        return self.rows[self.place_with(key)]
 
     def check_place(self, place):
         # The refused thing isn't shown: it may be anything, and not all can be written out.

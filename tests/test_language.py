@@ -116,7 +116,9 @@ class LanguageTest(unittest.TestCase):
         for path, node in nodes(ast.ImportFrom):
             self.holds("L2", path, node, node.level == 0 and node.module.startswith("slowshift."))
             source = PACKAGE / (node.module.split(".")[1] + ".py")
-            defined = [getattr(part, "name", None) for part in ast.parse(source.read_text()).body]
+            body = ast.parse(source.read_text()).body
+            defined = [getattr(part, "name", None) for part in body]
+            defined += [part.targets[0].id for part in body if isinstance(part, ast.Assign)]
             for name in node.names:
                 self.holds("L16", path, node, name.name in defined and name.asname is None)
 
@@ -138,6 +140,37 @@ class LanguageTest(unittest.TestCase):
         for path, node in nodes(ast.Attribute):
             known = node.attr in OWN_METHODS or node.attr in methods or node.attr in stored
             self.holds("L25", path, node, known or node.attr == "__init__")
+
+    def test_no_two_files_draw_from_one_another(self):
+        drawn = {path.stem: [] for path in files()}
+        for path, node in nodes(ast.ImportFrom):
+            drawn[path.stem].append(node.module.split(".")[1])
+        while drawn:
+            free = [name for name in drawn if not any(other in drawn for other in drawn[name])]
+            self.assertTrue(free, f"L16: {sorted(drawn)}")
+            for name in free:
+                drawn.pop(name)
+
+    def test_no_local_is_called_like_an_import_or_a_class(self):
+        for path, tree in trees():
+            taken = [part.name for part in tree.body if isinstance(part, ast.ClassDef)]
+            for part in tree.body:
+                taken += [name.name for name in part.names] if isinstance(part, ast.ImportFrom) else []
+            for node in ast.walk(tree):
+                if isinstance(node, ast.arg):
+                    self.holds("L15", path, node, node.arg not in taken)
+                if isinstance(node, ast.Name) and isinstance(node.ctx, ast.Store):
+                    self.holds("L15", path, node, node.id not in taken)
+
+    def test_sets_are_not_kept(self):
+        beside = [argument for path, node in nodes(ast.Call) for argument in node.args
+                  if isinstance(node.func, ast.Name) and node.func.id in ("len", "sorted")]
+        for path, node in nodes(ast.Call):
+            if isinstance(node.func, ast.Name) and node.func.id in ("set", "frozenset"):
+                # Each walk over the files makes new nodes, so they are told apart by where they stand.
+                held = any(ast.dump(node, include_attributes=True) == ast.dump(other, include_attributes=True)
+                           for other in beside)
+                self.holds("L24", path, node, held)
 
     def test_no_name_is_a_method_and_a_value(self):
         methods = [node.name for path, kind in nodes(ast.ClassDef) for node in kind.body if hasattr(node, "name")]

@@ -3,10 +3,7 @@ import unittest
 from slowshift.errors import NoPlace, NoSize, SlowError
 from slowshift.shelves import Shelf
 
-SIZES = (4, 8, 16, 32, 64, 128, 256, 512, 1024, 2048, 4096)
-PLAIN = (1, 0)
-ONE_PLACE = (0, 6)
-GREATEST = 10 ** 9
+from tests.helpers import GREATEST, MIXERS, ONE_PLACE, PLAIN, SIZES, PlainShelf
 
 
 def shelf_with(size, mixer, pairs):
@@ -37,46 +34,6 @@ def no_numbers():
         {4: 4}, {"a": []}, [[]], endless(), object(), int, len, Shelf, Shelf(4, PLAIN), set(), {4}, frozenset([0]),
         b"", b"4", range(4), NoSize("4"),
     ]
-
-
-class PlainShelf:
-    """The document's words on shelves once more, by lists that are searched."""
-
-    def __init__(self, size, mixer):
-        self.rows = [[] for place in range(size)]
-        self.mixer = mixer
-
-    def found(self, key):
-        row = self.rows[(key * self.mixer[0] + self.mixer[1]) % 65536 % len(self.rows)]
-        for number, pair in enumerate(row):
-            if pair[0] == key:
-                return row, number
-        return row, None
-
-    def put(self, key, worth):
-        row, number = self.found(key)
-        if number is None:
-            row.append((key, worth))
-            return None
-        before = row[number][1]
-        row[number] = (key, worth)
-        return before
-
-    def cut(self, key):
-        row, number = self.found(key)
-        return None if number is None else row.pop(number)[1]
-
-    def look(self, key):
-        row, number = self.found(key)
-        return None if number is None else row[number][1]
-
-    def empty(self, place):
-        told = self.rows[place]
-        self.rows[place] = []
-        return told
-
-    def many(self):
-        return sum(len(row) for row in self.rows)
 
 
 class NewShelfTest(unittest.TestCase):
@@ -442,7 +399,7 @@ class ManyDeedsTest(unittest.TestCase):
         near = list(range(40))
         far = [GREATEST - number * 65521 for number in range(300)] + [0, GREATEST]
         for size in (4, 8, 64, 4096):
-            for mixer in (PLAIN, ONE_PLACE, (40503, 12345), (65535, 65535), (4096, 0)):
+            for mixer in MIXERS:
                 self.done(size, mixer, near, 7)
                 self.done(size, mixer, far, 11)
 
