@@ -1,5 +1,6 @@
 """What several test files need: plain shelves and tables to hold the program against, and long rows of deeds."""
 
+import functools
 import itertools
 
 SIZES = (4, 8, 16, 32, 64, 128, 256, 512, 1024, 2048, 4096)
@@ -7,6 +8,7 @@ PLAIN = (1, 0)
 ONE_PLACE = (0, 6)
 MIXERS = (PLAIN, ONE_PLACE, (40503, 12345), (65535, 65535), (4096, 0))
 GREATEST = 10 ** 9
+POINTS = [int(f"{mark:016b}"[::-1], 2) for mark in range(65536)]
 
 
 def mark(key, mixer):
@@ -127,6 +129,29 @@ def rows(shelf):
     return tuple(tuple(row) for row in shelf.rows)
 
 
+@functools.cache
+def stretches(size):
+    """The places of a size with their least and greatest points, in the order of these."""
+    found = []
+    for place in range(size):
+        points = POINTS[place::size]
+        found.append((min(points), max(points), place))
+    return sorted(found)
+
+
+def plain_step(state, cursor):
+    """The document's words on a step once more, read off a state."""
+    shelves = sorted([shelf for shelf in (state[0], state[2]) if shelf is not None], key=len)
+    lesser = shelves[0]
+    first, last, place = [found for found in stretches(len(lesser)) if found[0] <= cursor <= found[1]][0]
+    pairs = list(lesser[place])
+    for greater in shelves[1:]:
+        for start, end, part in stretches(len(greater)):
+            if first <= start and end <= last and end >= cursor:
+                pairs.extend(greater[part])
+    return (0 if last == 65535 else last + 1, pairs)
+
+
 def laid(size, mixer, pairs):
     """A shelf of a state: the pairs in this order, each in the row of its key's place."""
     shelf = PlainShelf(size, mixer)
@@ -202,3 +227,14 @@ def deed_towards(goal, there, keys, drawn):
     if choice == 1:
         return (("look", key), ("put", held, worth), ("cut", key))[next(drawn) % 3]
     return ("put", key, worth) if len(there) < goal else ("cut", held)
+
+
+def with_steps(deeds, start, often):
+    """These deeds, with one or two steps ahead of every second, third .. of them, more or less."""
+    drawn = numbers(start)
+    mixed = []
+    for deed in deeds:
+        if next(drawn) % often == 0:
+            mixed.extend([("step",)] * (1 + next(drawn) % 2))
+        mixed.append(deed)
+    return mixed

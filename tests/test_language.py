@@ -76,6 +76,13 @@ class LanguageTest(unittest.TestCase):
         for path, node in nodes(ast.AST):
             self.holds("L6, L7", path, node, node.__class__.__name__ in NODES)
 
+    def test_calls_alone_stand_by_themselves(self):
+        for path, tree in trees():
+            self.holds("L3", path, tree, ast.get_docstring(tree))
+            for node in ast.walk(tree):
+                if isinstance(node, ast.Expr) and node is not tree.body[0]:
+                    self.holds("L6", path, node, isinstance(node.value, ast.Call))
+
     def test_values(self):
         for path, node in nodes(ast.Constant):
             self.holds("L7", path, node, node.value is None or isinstance(node.value, (int, str)))

@@ -1,41 +1,18 @@
-import functools
 import itertools
 import unittest
 
 from slowshift.tables import Table
 from slowshift.walks import step
 
-from tests.helpers import MIXERS, ONE_PLACE, PLAIN, SIZES, laid, one_shelf, told_by_dict, two_shelves, waves
+from tests.helpers import (
+    MIXERS, ONE_PLACE, PLAIN, SIZES, laid, one_shelf, plain_step, stretches, told_by_dict, two_shelves, waves,
+)
 
 PACES = (1, 2, 3, 4, 5, 6, 7, 8)
-POINTS = [int(f"{mark:016b}"[::-1], 2) for mark in range(65536)]
 MANY = 600
 KEYS = list(range(MANY))
 # By this mixer the keys of MANY have marks all over the sixteen bits.
 SPREAD = (40503, 12345)
-
-
-@functools.cache
-def stretches(size):
-    """The places of a size with their least and greatest points, in the order of these."""
-    found = []
-    for place in range(size):
-        points = POINTS[place::size]
-        found.append((min(points), max(points), place))
-    return sorted(found)
-
-
-def plain_step(state, cursor):
-    """The document's words on a step once more, read off a state."""
-    shelves = sorted([shelf for shelf in (state[0], state[2]) if shelf is not None], key=len)
-    lesser = shelves[0]
-    first, last, place = [found for found in stretches(len(lesser)) if found[0] <= cursor <= found[1]][0]
-    pairs = list(lesser[place])
-    for greater in shelves[1:]:
-        for start, end, part in stretches(len(greater)):
-            if first <= start and end <= last and end >= cursor:
-                pairs.extend(greater[part])
-    return (0 if last == 65535 else last + 1, pairs)
 
 
 def cursors(size):
